@@ -1,7 +1,18 @@
 """Whole numbers and rests, and sums of products over lists of them."""
 
+from cupweb.errors import BadRests
+
 # Rests of this number mean whole numbers: nothing is taken off them.
 WHOLE = 0
+
+LEAST_RESTS = 2
+GREATEST_RESTS = 60
+
+
+def refuse_rests(rests):
+    """Refuse rests that are none, for those who must: `rest` and `rested` take any."""
+    if rests != WHOLE and not LEAST_RESTS <= rests <= GREATEST_RESTS:
+        raise BadRests()
 
 
 def rest(number, rests=WHOLE):

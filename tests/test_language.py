@@ -244,5 +244,67 @@ class StatementsTest(unittest.TestCase):
                             self.assertNotIsInstance(part, ast.GeneratorExp, name)
 
 
+def is_call_of(node, *names):
+    return isinstance(node, ast.Call) and isinstance(node.func, ast.Name) and node.func.id in names
+
+
+def is_text(node):
+    """True where an expression is a text, as __repr__ and __str__ must return it."""
+    if isinstance(node, ast.Constant):
+        return isinstance(node.value, str)
+    if isinstance(node, ast.JoinedStr) or is_call_of(node, "str", "repr"):
+        return True
+    joins = isinstance(node, ast.Call) and isinstance(node.func, ast.Attribute) and node.func.attr == "join"
+    return joins and isinstance(node.func.value, ast.Constant)
+
+
+def is_count(node):
+    """True where an expression is a count, as __len__ must return it."""
+    return is_call_of(node, "len") or (isinstance(node, ast.Constant) and isinstance(node.value, int))
+
+
+class DoubleTest(unittest.TestCase):
+    def doubles(self, *names):
+        """(file, function) of the double-underscore methods of these names."""
+        return [(name, node) for name, tree in trees().items() for node in functions(tree) if node.name in names]
+
+    def test_returns(self):
+        for names, right in ((("__repr__", "__str__"), is_text), (("__len__",), is_count)):
+            for name, function in self.doubles(*names):
+                self.assertIsInstance(function.body[-1], ast.Return, (name, function.name))
+                for node in ast.walk(function):
+                    if isinstance(node, ast.Return):
+                        self.assertTrue(right(node.value), (name, function.name))
+
+    def test_they_assign_nothing_but_lists_of_their_own(self):
+        for name, function in self.doubles("__eq__", "__repr__", "__str__", "__len__"):
+            for node in ast.walk(function):
+                if isinstance(node, ast.Assign):
+                    self.assertIsInstance(node.value, (ast.List, ast.ListComp), (name, function.name))
+                    self.assertTrue(all(isinstance(target, ast.Name) for target in node.targets), name)
+
+    def test_equality_asks_for_the_class_first(self):
+        for name, function in self.doubles("__eq__"):
+            self.assertEqual(len(function.body), 1, name)
+            asked = function.body[0].value
+            self.assertIsInstance(asked, ast.BoolOp, name)
+            self.assertTrue(is_call_of(asked.values[0], "isinstance"), name)
+
+
+class IteratedTest(unittest.TestCase):
+    def test_what_is_iterated_at_once_is_not_stored(self):
+        for name, tree in trees().items():
+            for node in ast.walk(tree):
+                if isinstance(node, (ast.Assign, ast.Return)):
+                    self.assertFalse(is_call_of(node.value, "zip", "enumerate", "reversed", "range"), name)
+
+    def test_sets_are_not_iterated(self):
+        for name, tree in trees().items():
+            for node in ast.walk(tree):
+                if isinstance(node, (ast.For, ast.comprehension)):
+                    self.assertFalse(is_call_of(node.iter, "set", "frozenset"), name)
+                    self.assertNotIsInstance(node.iter, (ast.Set, ast.SetComp), name)
+
+
 if __name__ == "__main__":
     unittest.main()
