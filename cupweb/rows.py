@@ -29,6 +29,20 @@ def side_signs(face):
     return {side: -1 if at & 1 else 1 for at, side in enumerate(sides(face))}
 
 
+def spread(row, shares, web, size):
+    """The row of a web's faces of a size to which a row goes; each of its faces goes to (face, sign) as in shares."""
+    told = [0] * web.many(size)
+    for number, going in zip(row, shares):
+        for face, sign in going:
+            told[web.place(face)] += sign * number
+    return told
+
+
+def gathered(row, shares, web):
+    """The row of the numbers that a row on a web's faces has, by their signs, at what each face goes to in shares."""
+    return [sum([sign * row[web.place(face)] for face, sign in going]) for going in shares]
+
+
 def border_table(web, size):
     """The table that with a row of that size, line by line, is its border."""
     signs = [side_signs(face) for face in web.faces(size)]

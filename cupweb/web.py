@@ -26,6 +26,18 @@ def growing(face):
     return tuple(sorted(face))
 
 
+def order_sign(points):
+    """1 where an even number of exchanges of neighbours brings the points into growing order, -1 where an odd one.
+
+    0 where two of them are alike.
+    """
+    if len(set(points)) != len(points):
+        return 0
+    # Each pair that stands the wrong way about costs just one exchange.
+    wrong = [at for at, point in enumerate(points) for later in points[at + 1:] if later < point]
+    return -1 if len(wrong) & 1 else 1
+
+
 def sides(face):
     """The sides of a growing face by the places that are left out; a point has none."""
     if len(face) == 1:

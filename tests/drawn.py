@@ -6,6 +6,70 @@ import itertools
 RESTS = [0] + list(range(2, 61))
 BAD_RESTS = (1, -1, -2, -60, 61, 62, 10 ** 29, -(10 ** 29))
 
+# Ten triangles on six points, each stretch in two of them: a ring of stretches is no border, but twice it is one.
+BENT_PLANE = [
+    (0, 1, 2), (0, 2, 3), (0, 3, 4), (0, 4, 5), (0, 1, 5), (1, 2, 4), (2, 3, 5), (1, 3, 4), (2, 4, 5), (1, 3, 5),
+]
+# Seven points, each two of them joined, and fourteen triangles that wrap a ring around a ring.
+TWO_RINGS = [tuple(sorted(((k + at) % 7) for at in way)) for k in range(7) for way in ((0, 1, 3), (0, 2, 3))]
+
+
+def wall(many):
+    """The closed wall of so many points: all sides of the face that they would be."""
+    return list(itertools.combinations(range(many), many - 1))
+
+
+def loop(many):
+    """A ring of stretches through so many points."""
+    return [(at, (at + 1) % many) for at in range(many)]
+
+
+def wound(times):
+    """A disc whose rim runs so many times around the ring of the points 0, 1 and 2."""
+    rim = 3 * times
+    faces = []
+    for at in range(rim):
+        inner, further = 4 + at, 4 + (at + 1) % rim
+        faces.append((3, inner, further))
+        faces.append((inner, further, (at + 1) % 3))
+        faces.append((inner, at % 3, (at + 1) % 3))
+    return faces
+
+
+def side_by_side(faces, others):
+    """Both lists of faces, the points of the second one raised beyond those of the first."""
+    by = max((max(face) + 1 for face in faces), default=0)
+    return faces + [tuple(point + by for point in face) for face in others]
+
+
+def bent_on_wound():
+    """The bent plane and the disc wound thrice, put together at a triangle."""
+    places = (3, 4, 5, 13, 14, 15)
+    return wound(3) + [tuple(places[point] for point in face) for face in BENT_PLANE]
+
+
+def known_webs():
+    """A dict of faces by plain names: what is known of their groups stands in the tests."""
+    return {
+        "none": [],
+        "point": [(5,)],
+        "stretch": [(0, 9)],
+        "triangle": [(2, 3, 7)],
+        "four": [(1, 4, 9, 15)],
+        "wall of three": wall(3),
+        "wall of four": wall(4),
+        "wall of five": wall(5),
+        "loop of five": loop(5),
+        "wound twice": wound(2),
+        "wound thrice": wound(3),
+        "bent plane": BENT_PLANE,
+        "two rings": TWO_RINGS,
+        "walls beside": side_by_side(wall(3), wall(4)),
+        "bent and wound": side_by_side(BENT_PLANE, wound(2)),
+        "bent on wound": bent_on_wound(),
+        "points": [(0,), (3,), (15,)],
+    }
+
 
 def some_number(chance, figures=25):
     """A number of any sign, of any count of figures as likely as another."""
@@ -66,11 +130,74 @@ def own_rise(faces, size, row):
     return told
 
 
+def sign_of(points):
+    """The sign of the exchanges of neighbours that sort the points, by doing them; 0 where two are alike."""
+    points = list(points)
+    if len(set(points)) < len(points):
+        return 0
+    sign = 1
+    while points != sorted(points):
+        for at in range(len(points) - 1):
+            if points[at] > points[at + 1]:
+                points[at], points[at + 1] = points[at + 1], points[at]
+                sign = -sign
+    return sign
+
+
 def by_columns(function, faces, size, lines):
     """The table of a border or a rise, so many lines long: what it makes of each face alone."""
     many = len(of_size(faces, size))
     columns = [function(faces, size, [int(at == place) for place in range(many)]) for at in range(many)]
     return [[column[line] for column in columns] for line in range(lines)]
+
+
+def fill_table(faces, size):
+    """The table whose wish is a row to be filled, and its width."""
+    lines, wide = len(of_size(faces, size)), len(of_size(faces, size + 1))
+    return by_columns(own_border, faces, size + 1, lines), wide
+
+
+def raise_table(faces, size):
+    """The table whose wish is a row to be raised, and its width."""
+    lines, wide = len(of_size(faces, size)), len(of_size(faces, size - 1))
+    return by_columns(own_rise, faces, size - 1, lines), wide
+
+
+def kernel(table, wide):
+    """Rows of which each row by which all lines sum up to nought is a whole sum; by plain column steps."""
+    columns = [[line[at] for line in table] + [int(at == place) for place in range(wide)] for at in range(wide)]
+    first = 0
+    for line in range(len(table)):
+        while True:
+            left = [at for at in range(first, wide) if columns[at][line]]
+            if not left:
+                break
+            least = min(left, key=lambda at: abs(columns[at][line]))
+            columns[first], columns[least] = columns[least], columns[first]
+            if len(left) == 1:
+                first += 1
+                break
+            for at in range(first + 1, wide):
+                times = columns[at][line] // columns[first][line]
+                columns[at] = [number - times * less for number, less in zip(columns[at], columns[first])]
+    return [column[len(table):] for column in columns[first:]]
+
+
+def kernel_by_rests(table, wide, rests):
+    """The same where the lines sum up to nought by rests."""
+    if not rests:
+        return kernel(table, wide)
+    lines = [list(line) + [rests * int(at == place) for place in range(len(table))] for at, line in enumerate(table)]
+    return [row[:wide] for row in kernel(lines, wide + len(table))]
+
+
+def some_sum(chance, rows, many, figures=3):
+    """A sum of rows so many long, each so many times."""
+    told = [0] * many
+    for row in rows:
+        times = some_number(chance, figures)
+        told = [number + times * more for number, more in zip(told, row)]
+    return told
 
 
 def by_rests(row, rests):
@@ -94,6 +221,19 @@ def refusals(good_row, *, good_rests=(0, 2, 60)):
             told.extend((size, rests, handed, "BadRests") for handed in [row] + wrong)
         for rests in good_rests:
             told.extend((size, rests, handed, "BadRow") for handed in wrong)
+    return told
+
+
+def two_row_refusals(good_row):
+    """(size, row, high, other, rests, the refusal that goes first) for two rows on one web's faces."""
+    first = refusals(good_row)
+    told = []
+    for at, (size, rests, row, word) in enumerate(first):
+        # Whatever the second row is, the first one is looked at ahead of it.
+        for high, more, other, later in first[at % 11::97]:
+            told.append((size, row, high, other, rests, word))
+        told.append((size, row, at % 4, good_row(at % 4), rests, word))
+        told.append((at % 4, good_row(at % 4), size, row, rests, "BadRests" if rests in BAD_RESTS else word))
     return told
 
 

@@ -10,27 +10,9 @@ from cupweb import errors
 from cupweb.papers import filled, raised, shows_filled, shows_raised
 from cupweb.web import Web
 from drawn import (
-    RESTS, bent_papers, by_columns, by_rests, holds, of_size, own_border, own_rise, refusals, some_faces, some_row,
-    turned_at_one,
+    BENT_PLANE, RESTS, bent_papers, by_rests, fill_table, holds, of_size, own_border, own_rise, raise_table, refusals,
+    some_faces, some_row, turned_at_one,
 )
-
-# Ten triangles on six points, each stretch in two of them: a ring of stretches is no border, but twice it is one.
-BENT_PLANE = [
-    (0, 1, 2), (0, 2, 3), (0, 3, 4), (0, 4, 5), (0, 1, 5), (1, 2, 4), (2, 3, 5), (1, 3, 4), (2, 4, 5), (1, 3, 5),
-]
-
-
-def fill_table(faces, size):
-    """The table whose wish is a row to be filled, and its width."""
-    lines, wide = len(of_size(faces, size)), len(of_size(faces, size + 1))
-    return by_columns(own_border, faces, size + 1, lines), wide
-
-
-def raise_table(faces, size):
-    """The table whose wish is a row to be raised, and its width."""
-    lines, wide = len(of_size(faces, size)), len(of_size(faces, size - 1))
-    return by_columns(own_rise, faces, size - 1, lines), wide
-
 
 KINDS = ((filled, shows_filled, fill_table, own_border, 1), (raised, shows_raised, raise_table, own_rise, -1))
 
