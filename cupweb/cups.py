@@ -11,7 +11,6 @@ from cupweb.rows import refuse_size
 from cupweb.rows import rise
 from cupweb.web import GREATEST_SIZE
 from cupweb.wholes import WHOLE
-from cupweb.wholes import refuse_rests
 from cupweb.wholes import rested
 
 
@@ -37,7 +36,7 @@ def refuse_rows(web, size, row, high, other, rests):
 
 
 def refuse_open(web, size, row, rests):
-    """Refuse a row that is no cut."""
+    """Refuse as point 4 says, then a row that is no cut."""
     if not is_cut(web, size, row, rests=rests):
         raise NotShut()
 
@@ -86,9 +85,7 @@ def product_numbers(web, size, row, high, other, group, rests):
 
 def products(web, size, high, *, rests=WHOLE):
     """For each maker of cuts of size, for each one of cuts of high, the product's numbers."""
-    refuse_size(size)
-    refuse_rests(rests)
-    refuse_size(high)
+    # Both groups refuse in the order that point 4 tells for two sizes without rows.
     makers = cuts(web, size, rests=rests).makers
     others = cuts(web, high, rests=rests).makers
     if size + high > GREATEST_SIZE:
@@ -102,6 +99,5 @@ def stepped(web, size, row, *, rests):
     refuse_size(size)
     if rests == WHOLE:
         raise BadRests()
-    refuse_row(web, size, row, rests)
     refuse_open(web, size, row, rests)
     return [number // rests for number in rise(web, size, rested(row, rests))]

@@ -58,13 +58,11 @@ class Shut:
         return [turned[at] // self.strides[at] for at in self.kept]
 
     def free_table(self, table, wide):
-        """The free numbers of a table's columns, each of which is shut, as columns, and the bounds by rests."""
+        """The free numbers of a table's columns, each of which is shut in whole numbers, with the bounds by rests."""
         lines = times_table([self.unturned[at] for at in self.kept], table, wide)
-        told = []
-        for at, line in enumerate(lines):
-            by = self.strides[self.kept[at]]
-            told.append(rested([number // by for number in line], self.bounds[at]) + bound_columns(self.bounds, at))
-        return told
+        # Such a column's turned numbers are nought where a stride isn't 1, so there is nothing to part by it.
+        bounded = list(zip(lines, self.bounds))
+        return [rested(line, bound) + bound_columns(self.bounds, at) for at, (line, bound) in enumerate(bounded)]
 
 
 class Group:

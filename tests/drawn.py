@@ -2,8 +2,11 @@
 
 import copy
 import itertools
+import re
 
 RESTS = [0] + list(range(2, 61))
+# Tuples that are no faces.
+NO_FACES = ((), (0, 0), (1, 0, 1), (-1,), (16,), (0, 16), (0, 1, 2, 3, 4), (10 ** 29,), (5, -5))
 BAD_RESTS = (1, -1, -2, -60, 61, 62, 10 ** 29, -(10 ** 29))
 
 # Ten triangles on six points, each stretch in two of them: a ring of stretches is no border, but twice it is one.
@@ -142,6 +145,63 @@ def sign_of(points):
                 points[at], points[at + 1] = points[at + 1], points[at]
                 sign = -sign
     return sign
+
+
+def own_led_back(faces, others, leads, size, row):
+    """The row led back, by point 13."""
+    numbers = dict(zip(of_size(others, size), row, strict=True))
+    told = []
+    for face in of_size(faces, size):
+        led = [leads[point] for point in face]
+        told.append(sign_of(led) * numbers[tuple(sorted(led))] if sign_of(led) else 0)
+    return told
+
+
+def least_fresh(faces):
+    there = {point for face in faces for point in face}
+    left = [point for point in range(16) if point not in there]
+    return left[0] if left else None
+
+
+def own_finer(faces, face):
+    """(the finer web's faces, what each replaced face goes over to, the new point) by point 14."""
+    fresh = least_fresh(faces)
+    later, gone = [], {}
+    for other in closed(faces):
+        if not set(face) <= set(other):
+            later.append(other)
+            continue
+        gone[other] = []
+        for point in face:
+            led = tuple(fresh if part == point else part for part in other)
+            gone[other].append((tuple(sorted(led)), sign_of(led)))
+            later.append(led)
+    return closed(later), gone, fresh
+
+
+def own_lesser(faces, face):
+    """(the lesser web's faces, what each face that goes goes over to) by point 14."""
+    free = tuple(sorted(face))
+    greater = [other for other in closed(faces) if set(free) < set(other)]
+    assert len(greater) == 1
+    border = {greater[0][:at] + greater[0][at + 1:]: (1, -1)[at % 2] for at in range(len(greater[0]))}
+    own = border.pop(free)
+    gone = {free: [(side, -own * sign) for side, sign in border.items()], greater[0]: []}
+    return [other for other in closed(faces) if other not in gone], gone
+
+
+def free_faces(faces):
+    there = closed(faces)
+    return [face for face in there if sum(set(face) < set(other) for other in there) == 1]
+
+
+def own_over(faces, later, gone, size, row):
+    """The row that goes over to the later faces, by what each face that does not stay goes over to."""
+    told = {face: 0 for face in of_size(later, size)}
+    for face, number in zip(of_size(faces, size), row, strict=True):
+        for other, sign in gone.get(face, [(face, 1)]):
+            told[other] += sign * number
+    return list(told.values())
 
 
 def by_columns(function, faces, size, lines):
@@ -291,3 +351,230 @@ def bent_papers(chance, told, rests):
         papers.append(("barred", list(numbers), told[2] if told[0] == "barred" else rests))
     papers.extend(("barred", list(told[1]), many) for many in manys)
     return papers
+
+
+class OwnLoft:
+    """A loft by points 17 and 18, slow and plain: a deed tells the word of its refusal, or None."""
+
+    def __init__(self):
+        self.webs = {}
+        self.kept = {}
+
+    def do(self, deed):
+        return getattr(self, "do_" + deed[0])(*deed[1:])
+
+    def do_begin(self, name):
+        if not re.fullmatch("[a-z]{1,8}", name):
+            return "BadName"
+        if name in self.webs or len(self.webs) == 6:
+            return "Taken" if name in self.webs else "Full"
+        self.webs[name] = []
+
+    def do_drop(self, name):
+        if name not in self.webs:
+            return "NoWeb"
+        del self.webs[name]
+        self.kept = {row: known for row, known in self.kept.items() if known[0] != name}
+
+    def do_put(self, name, face):
+        if name not in self.webs:
+            return "NoWeb"
+        if not 1 <= len(face) <= 4 or len(set(face)) < len(face) or not set(face) <= set(range(16)):
+            return "BadFace"
+        if tuple(sorted(face)) in self.webs[name]:
+            return "Had"
+        later = closed(self.webs[name] + [face])
+        if len(later) > 120:
+            return "Full"
+        self.settle(name, later)
+
+    def do_take(self, name, face):
+        if name not in self.webs:
+            return "NoWeb"
+        if tuple(sorted(face)) not in self.webs[name]:
+            return "NoFace"
+        self.settle(name, [other for other in self.webs[name] if not set(face) <= set(other)])
+
+    def settle(self, name, later):
+        """Faces came or went: rows have the numbers as ahead, and go where they must."""
+        elder = self.webs[name]
+        self.webs[name] = later
+        for row, (home, kind, size, rests, numbers) in list(self.kept.items()):
+            if home != name:
+                continue
+            known = dict(zip(of_size(elder, size), numbers, strict=True))
+            told = [known.get(face, 0) for face in of_size(later, size)]
+            gone = any(number for face, number in known.items() if face not in later)
+            opened = any(by_rests(own_rise(later, size, told), rests))
+            if gone if kind == "ring" else opened:
+                del self.kept[row]
+            else:
+                self.kept[row] = (home, kind, size, rests, told)
+
+    def do_finer(self, name, face):
+        if name not in self.webs:
+            return "NoWeb"
+        if tuple(sorted(face)) not in self.webs[name]:
+            return "NoFace"
+        if len(face) == 1:
+            return "BadSize"
+        if least_fresh(self.webs[name]) is None:
+            return "Full"
+        later, gone, fresh = own_finer(self.webs[name], face)
+        if len(later) > 120:
+            return "Full"
+        self.go_over(name, later, gone, {fresh: min(face)})
+
+    def do_lesser(self, name, face):
+        if name not in self.webs:
+            return "NoWeb"
+        if tuple(sorted(face)) not in self.webs[name]:
+            return "NoFace"
+        if tuple(sorted(face)) not in free_faces(self.webs[name]):
+            return "NotFree"
+        later, gone = own_lesser(self.webs[name], face)
+        self.go_over(name, later, gone, {})
+
+    def go_over(self, name, later, gone, moved):
+        """A web was made finer or lesser: rings go over, cuts are led back."""
+        elder = self.webs[name]
+        self.webs[name] = later
+        leads = {face[0]: moved.get(face[0], face[0]) for face in of_size(later, 0)}
+        for row, (home, kind, size, rests, numbers) in self.kept.items():
+            if home == name and kind == "ring":
+                numbers = own_over(elder, later, gone, size, numbers)
+            elif home == name:
+                numbers = own_led_back(later, elder, leads, size, numbers)
+            self.kept[row] = (home, kind, size, rests, by_rests(numbers, rests))
+
+    def do_keep(self, row, name, kind, size, rests, numbers):
+        if not re.fullmatch("[a-z]{1,8}", row):
+            return "BadName"
+        if row in self.kept:
+            return "Taken"
+        if name not in self.webs:
+            return "NoWeb"
+        if kind not in ("ring", "cut"):
+            return "BadKind"
+        if size not in range(4):
+            return "BadSize"
+        if rests not in RESTS:
+            return "BadRests"
+        if len(numbers) != len(of_size(self.webs[name], size)):
+            return "BadRow"
+        own = own_border if kind == "ring" else own_rise
+        if any(by_rests(own(self.webs[name], size, numbers), rests)):
+            return "NotShut"
+        if len(self.kept) == 12:
+            return "Full"
+        self.kept[row] = (name, kind, size, rests, by_rests(numbers, rests))
+
+    def do_forget(self, row):
+        if row not in self.kept:
+            return "NoRow"
+        del self.kept[row]
+
+    def do_bundle(self, deeds):
+        if any(deed[0] == "bundle" for deed in deeds):
+            return "BadKind"
+        webs, kept = dict(self.webs), dict(self.kept)
+        for deed in deeds:
+            word = self.do(deed)
+            if word:
+                self.webs, self.kept = webs, kept
+                return word
+
+
+ODD_NAMES = ("", "A", "aB", "a b", "toolongname", "abcdefghi", "a1", "-", "a.b", "none,", "z" * 400)
+ODD_KINDS = ("", "rings", "Ring", "cuts", "row", "face", "CUT", "all:")
+
+
+def some_name(chance, known, more="abcdefgh"):
+    """A known name mostly, else a new one or an odd one."""
+    if known and chance.random() < 0.75:
+        return chance.choice(list(known))
+    if chance.random() < 0.85:
+        return chance.choice(more) + chance.choice(("", "", "x", "yyyyyyy"))
+    return chance.choice(ODD_NAMES)
+
+
+def shut_row(chance, faces, kind, size, rests, figures=1):
+    """A ring or a cut by the test's own sums."""
+    many = len(of_size(faces, size))
+    own, way = (own_border, -1) if kind == "ring" else (own_rise, 1)
+    table = by_columns(own, faces, size, len(of_size(faces, size + way)))
+    return some_sum(chance, kernel_by_rests(table, many, rests), many, figures)
+
+
+def some_keep(chance, loft):
+    """A deed that keeps a row, mostly a good one."""
+    name = some_name(chance, loft.webs)
+    faces = loft.webs.get(name, [])
+    kind = chance.choice(("ring", "cut"))
+    size = chance.randint(0, max((len(face) - 1 for face in faces), default=1))
+    rests = chance.choice((0, 0, 2, 3, 60, chance.choice(RESTS)))
+    numbers = shut_row(chance, faces, kind, size, rests, chance.choice((1, 1, 20)))
+    odd = chance.random()
+    if odd < 0.05:
+        kind = chance.choice(ODD_KINDS)
+    elif odd < 0.1:
+        size = chance.choice((-1, 4, 5, 10 ** 29, -(10 ** 29)))
+    elif odd < 0.15:
+        rests = chance.choice(BAD_RESTS)
+    elif odd < 0.2:
+        numbers = chance.choice((numbers + [0], numbers[1:], [], [5] * 400))
+    elif odd < 0.3:
+        numbers = turned_at_one(chance, numbers)
+    row = some_name(chance, [], "klmnopqrstuv")
+    return "keep", chance.choice((row, row, row, *loft.kept)), name, kind, size, rests, tuple(numbers)
+
+
+def some_face(chance, faces, word):
+    """A face of the web that fits the deed's word mostly, or any one on few points, or none at all."""
+    odd = chance.random()
+    fitting = {
+        "put": [], "take": faces, "finer": [face for face in faces if len(face) > 1], "lesser": free_faces(faces),
+    }[word]
+    if odd < 0.05:
+        return chance.choice(NO_FACES)
+    if odd < 0.2 or not fitting:
+        return tuple(chance.sample(range(7), chance.choice((1, 2, 2, 3, 3, 4))))
+    face = chance.choice(faces if odd < 0.25 else fitting)
+    return tuple(chance.sample(face, len(face)))
+
+
+def some_plain_deed(chance, loft):
+    """A deed that is no bundle, for a loft that stands so."""
+    word = chance.choice(("begin", "put", "put", "put", "take", "finer", "lesser", "keep", "keep", "forget", "drop"))
+    if not loft.webs and chance.random() < 0.6:
+        word = "begin"
+    if word == "drop" and chance.random() < 0.7:
+        word = "put"
+    if word == "keep":
+        return some_keep(chance, loft)
+    if word == "forget":
+        return word, some_name(chance, loft.kept, "klmnopqrstuv")
+    if word == "begin":
+        return word, some_name(chance, loft.webs if chance.random() < 0.2 else [])
+    name = some_name(chance, loft.webs)
+    if word == "drop":
+        return word, name
+    return word, name, some_face(chance, loft.webs.get(name, []), word)
+
+
+def some_deed(chance, loft):
+    """Any deed for a loft that stands so, a bundle now and then."""
+    if chance.random() < 0.9:
+        return some_plain_deed(chance, loft)
+    tried, deeds = copy.deepcopy(loft), []
+    for _ in range(chance.choice((0, 1, 2, 3, 5, 12))):
+        deed = some_plain_deed(chance, tried)
+        # Mostly good ones, that the whole bundle may be one.
+        for _ in range(3):
+            if copy.deepcopy(tried).do(deed) and chance.random() < 0.9:
+                deed = some_plain_deed(chance, tried)
+        tried.do(deed)
+        deeds.append(deed)
+    if chance.random() < 0.1:
+        deeds.insert(chance.randint(0, len(deeds)), ("bundle", ()))
+    return "bundle", tuple(deeds)

@@ -138,6 +138,38 @@ class ModulesTest(unittest.TestCase):
                     bound.extend(alias.asname or alias.name for alias in node.names)
             self.assertEqual(len(bound), len(set(bound)), name)
 
+    def test_values_at_module_level_are_plain(self):
+        for name, tree in trees().items():
+            above = set()
+            for node in tree.body:
+                if isinstance(node, ast.FunctionDef):
+                    above.add(node.name)
+                if isinstance(node, ast.Assign):
+                    for part in ast.walk(node.value):
+                        self.assertIsInstance(part, (ast.Constant, ast.Tuple, ast.List, ast.Dict, ast.Name, ast.Load), name)
+                        if isinstance(part, ast.Name):
+                            self.assertIn(part.id, above, name)
+                        if isinstance(part, (ast.List, ast.Dict)):
+                            self.assertIs(part, node.value, name)
+
+    def test_lists_and_dicts_at_module_level_are_only_read(self):
+        held = {
+            target.id for tree in trees().values() for node in tree.body
+            if isinstance(node, ast.Assign) and isinstance(node.value, (ast.List, ast.Dict)) for target in node.targets
+        }
+        for name, tree in trees().items():
+            read = set()
+            for node in ast.walk(tree):
+                if isinstance(node, ast.Subscript) and isinstance(node.ctx, ast.Load):
+                    read.add(node.value)
+                elif isinstance(node, ast.Attribute) and node.attr == "get":
+                    read.add(node.value)
+                elif isinstance(node, ast.Compare) and isinstance(node.ops[0], (ast.In, ast.NotIn)):
+                    read.update(node.comparators)
+            for node in ast.walk(tree):
+                if isinstance(node, ast.Name) and isinstance(node.ctx, ast.Load) and node.id in held:
+                    self.assertIn(node, read, (name, node.id))
+
     def test_imports_name_the_file_that_defines_the_name(self):
         all_trees = trees()
         for name, tree in all_trees.items():

@@ -12,8 +12,8 @@ from cupweb.groups import cuts, rings
 from cupweb.maps import Map, stays
 from cupweb.web import Web
 from drawn import (
-    BENT_PLANE, RESTS, TWO_RINGS, by_rests, closed, known_webs, loop, of_size, own_border, own_rise, refusals, sign_of,
-    some_faces, some_row, wall,
+    BENT_PLANE, RESTS, TWO_RINGS, by_rests, closed, known_webs, loop, of_size, own_border, own_led_back, own_rise,
+    refusals, sign_of, some_faces, some_row, wall,
 )
 
 
@@ -25,16 +25,6 @@ def own_forth(faces, others, leads, size, row):
         if sign_of(led):
             told[tuple(sorted(led))] += sign_of(led) * number
     return list(told.values())
-
-
-def own_back(faces, others, leads, size, row):
-    """The row led back, by point 13."""
-    numbers = dict(zip(of_size(others, size), row, strict=True))
-    told = []
-    for face in of_size(faces, size):
-        led = [leads[point] for point in face]
-        told.append(sign_of(led) * numbers[tuple(sorted(led))] if sign_of(led) else 0)
-    return told
 
 
 def own_between(faces, others, leads, more, size, row):
@@ -196,7 +186,7 @@ class LedTest(unittest.TestCase):
         kept = list(row), list(other)
         with self.subTest(faces=faces, others=others, leads=leads, size=size, rests=rests, row=row, other=other):
             forth = by_rests(own_forth(faces, others, leads, size, row), rests)
-            back = by_rests(own_back(faces, others, leads, size, other), rests)
+            back = by_rests(own_led_back(faces, others, leads, size, other), rests)
             for _ in range(2):
                 told = led.forth(size, row, rests=rests)
                 self.assertEqual(told, forth)

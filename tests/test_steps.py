@@ -12,11 +12,9 @@ from cupweb.maps import Map
 from cupweb.steps import Step, drawn_down, finer, lesser
 from cupweb.web import Web
 from drawn import (
-    RESTS, by_rests, closed, known_webs, of_size, own_border, own_rise, refusals, sign_of, some_faces,
-    some_row, wall,
+    NO_FACES, RESTS, by_rests, closed, free_faces, known_webs, least_fresh, of_size, own_border, own_finer, own_lesser,
+    own_over, own_rise, refusals, some_faces, some_row, wall,
 )
-
-NO_FACES = ((), (0, 0), (1, 0, 1), (-1,), (16,), (0, 16), (0, 1, 2, 3, 4), (10 ** 29,), (5, -5))
 
 
 def drawn_webs(seed, many, most=6):
@@ -24,52 +22,6 @@ def drawn_webs(seed, many, most=6):
     chance = random.Random(seed)
     told = list(known_webs().values()) + [some_faces(chance, most, chance.choice((4, 5, 6, 8))) for _ in range(many)]
     return [(chance, faces, Web(faces)) for faces in told]
-
-
-def least_fresh(faces):
-    there = {point for face in faces for point in face}
-    left = [point for point in range(16) if point not in there]
-    return left[0] if left else None
-
-
-def own_finer(faces, face):
-    """(the finer web's faces, what each replaced face goes over to, the new point) by point 14."""
-    fresh = least_fresh(faces)
-    later, gone = [], {}
-    for other in closed(faces):
-        if not set(face) <= set(other):
-            later.append(other)
-            continue
-        gone[other] = []
-        for point in face:
-            led = tuple(fresh if part == point else part for part in other)
-            gone[other].append((tuple(sorted(led)), sign_of(led)))
-            later.append(led)
-    return closed(later), gone, fresh
-
-
-def own_lesser(faces, face):
-    """(the lesser web's faces, what each face that goes goes over to) by point 14."""
-    free = tuple(sorted(face))
-    greater = [other for other in closed(faces) if set(free) < set(other)]
-    assert len(greater) == 1
-    border = {greater[0][:at] + greater[0][at + 1:]: (1, -1)[at % 2] for at in range(len(greater[0]))}
-    own = border.pop(free)
-    gone = {free: [(side, -own * sign) for side, sign in border.items()], greater[0]: []}
-    return [other for other in closed(faces) if other not in gone], gone
-
-
-def free_faces(faces):
-    there = closed(faces)
-    return [face for face in there if sum(set(face) < set(other) for other in there) == 1]
-
-
-def own_forth(faces, later, gone, size, row):
-    told = {face: 0 for face in of_size(later, size)}
-    for face, number in zip(of_size(faces, size), row, strict=True):
-        for other, sign in gone.get(face, [(face, 1)]):
-            told[other] += sign * number
-    return list(told.values())
 
 
 def own_back(faces, later, gone, size, row):
@@ -94,7 +46,7 @@ class StepsCase(unittest.TestCase):
     def check_rows(self, chance, faces, step, later, gone, size, rests):
         row, other = (some_row(chance, len(of_size(part, size))) for part in (faces, later))
         kept = list(row), list(other)
-        forth = by_rests(own_forth(faces, later, gone, size, row), rests)
+        forth = by_rests(own_over(faces, later, gone, size, row), rests)
         back = by_rests(own_back(faces, later, gone, size, other), rests)
         for _ in range(2):
             told = step.forth(size, row, rests=rests)
@@ -364,7 +316,7 @@ class RefusedTest(unittest.TestCase):
         for rests in RESTS:
             for size in range(4):
                 row, other = (some_row(chance, len(of_size(part, size))) for part in (faces, later))
-                right = by_rests(own_forth(faces, later, gone, size, row), rests)
+                right = by_rests(own_over(faces, later, gone, size, row), rests)
                 self.assertEqual(step.forth(size, row, rests=rests), right)
                 right = by_rests(own_back(faces, later, gone, size, other), rests)
                 self.assertEqual(step.back(size, other, rests=rests), right)
