@@ -85,6 +85,20 @@ class StepsCase(unittest.TestCase):
                 again = step.back(size, over, rests=rests)
                 self.assertEqual(elder.coordinates(again), elder.coordinates(maker))
 
+    def check_products(self, step, rests):
+        """Products of cuts led back by home, by the makers of the later web, have the numbers of the elder ones."""
+        for size, high in ((0, 0), (0, 1), (1, 1), (1, 2), (0, 2)):
+            elder, later = cuts(step.elder, size + high, rests=rests), cuts(step.later, size + high, rests=rests)
+            for one in cuts(step.elder, size, rests=rests).makers[:2]:
+                for two in cuts(step.elder, high, rests=rests).makers[:2]:
+                    whole = cup(step.elder, size, one, high, two, rests=rests)
+                    over = step.home.back(size + high, whole, rests=rests)
+                    parts = step.home.back(size, one, rests=rests), step.home.back(high, two, rests=rests)
+                    product = cup(step.later, size, parts[0], high, parts[1], rests=rests)
+                    self.assertEqual(later.coordinates(product), later.coordinates(over))
+                    again = elder.coordinates(step.back(size + high, product, rests=rests))
+                    self.assertEqual(again, elder.coordinates(whole))
+
 
 class FinerTest(StepsCase):
     def test_every_face_in_any_order(self):
@@ -183,20 +197,6 @@ class FinerTest(StepsCase):
                 self.check_groups(step, rests)
                 self.check_products(step, rests)
 
-    def check_products(self, step, rests):
-        """Products of cuts led back by home, by the makers of the later web, have the numbers of the elder ones."""
-        for size, high in ((0, 0), (0, 1), (1, 1), (1, 2), (0, 2)):
-            elder, later = cuts(step.elder, size + high, rests=rests), cuts(step.later, size + high, rests=rests)
-            for one in cuts(step.elder, size, rests=rests).makers[:2]:
-                for two in cuts(step.elder, high, rests=rests).makers[:2]:
-                    whole = cup(step.elder, size, one, high, two, rests=rests)
-                    over = step.home.back(size + high, whole, rests=rests)
-                    parts = step.home.back(size, one, rests=rests), step.home.back(high, two, rests=rests)
-                    product = cup(step.later, size, parts[0], high, parts[1], rests=rests)
-                    self.assertEqual(later.coordinates(product), later.coordinates(over))
-                    again = elder.coordinates(step.back(size + high, product, rests=rests))
-                    self.assertEqual(again, elder.coordinates(whole))
-
 
 class LesserTest(StepsCase):
     def test_every_free_face(self):
@@ -236,13 +236,14 @@ class LesserTest(StepsCase):
                     with self.subTest(faces=faces, face=face), self.assertRaises(errors.NotFree):
                         lesser(web, face[::-1])
 
-    def test_groups_behind_a_step(self):
+    def test_groups_and_products_behind_a_lesser_step(self):
         for chance, faces, web in drawn_webs(813, 20):
             free = free_faces(faces)
             if free:
                 step = lesser(web, chance.choice(free))
                 for rests in (0, chance.choice((2, 3, 4, 6, 60))):
                     self.check_groups(step, rests)
+                    self.check_products(step, rests)
 
     def test_finer_then_lesser(self):
         for chance, faces, web in drawn_webs(814, 10):
