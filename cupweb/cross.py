@@ -50,11 +50,12 @@ class Cross:
         self.pairs = pairs
         # A dict of its own, so that the list that is looked at is not what the ways are read by.
         self.places = {pair: at for at, pair in enumerate(pairs)}
-        self.made = Web([face for low in one.tops() for high in other.tops() for face, sign in self.shares(low, high)])
+        ways = [self.signed_faces(low, high) for low in one.tops() for high in other.tops()]
+        self.made = Web([face for signed in ways for face, sign in signed])
         self.first = Map(self.made, one, [(at, pair[0]) for pair, at in self.places.items()])
         self.second = Map(self.made, other, [(at, pair[1]) for pair, at in self.places.items()])
 
-    def shares(self, low, high):
+    def signed_faces(self, low, high):
         """The faces of both faces' ways, as (face, sign)."""
         told = []
         for way, sign in signed_ways(len(low) - 1, len(high) - 1):
@@ -65,7 +66,7 @@ class Cross:
         """The product of a row of the first web's faces and a row of the second one's."""
         refuse_row(self.one, size, row, rests)
         refuse_row(self.other, high, more, rests)
-        shares = [self.shares(face, over) for face in self.one.faces(size) for over in self.other.faces(high)]
+        shares = [self.signed_faces(face, over) for face in self.one.faces(size) for over in self.other.faces(high)]
         numbers = [number * times for number in row for times in more]
         return rested(spread(numbers, shares, self.made, size + high), rests)
 
